@@ -49,6 +49,38 @@ def count():
     return [8]
 
 
+def left(look):
+    return [9, look]
+
+
+def why(look, kind):
+    return [10, look, kind]
+
+
+def try_look(situation):
+    return [11, situation]
+
+
+def odds(look, kind):
+    return [12, look, kind]
+
+
+def fits(row):
+    return [13] + rowed(row)
+
+
+def first():
+    return [14]
+
+
+def worth(look):
+    return [15, look]
+
+
+def state():
+    return [16]
+
+
 def one_sort(truth, prices=None):
     """An open call where all looks and kinds are of sort 0."""
     n = len(truth)
@@ -83,5 +115,10 @@ def last(*calls):
 
 
 def seen(n):
-    """Calls that together show all that can be seen of an open house of n looks."""
-    return [count(), certain()] + [possible(look) for look in range(n)]
+    """Calls that together show all that can be seen of an open house of n looks, but for its outcomes."""
+    calls = [count(), certain(), first(), state()]
+    for look in range(n):
+        calls.extend([possible(look), left(look), worth(look)])
+        for kind in range(n):
+            calls.extend([why(look, kind), odds(look, kind)])
+    return calls

@@ -1,18 +1,29 @@
 """The document's own words, written down once more: every pairing is gone through, one by one."""
 
-from itertools import permutations
+from fractions import Fraction
+from itertools import combinations, permutations
 
 
 class Model:
     def __init__(self):
         self.truth = None
         self.told = {}
+        self.shown = 0
+        self.fitting_now = None
 
     def n(self):
         return len(self.truth)
 
+    def all_pairings(self):
+        return permutations(range(self.n()))
+
     def fitting(self):
-        return [p for p in permutations(range(self.n())) if all(p[l] in self.left[l] for l in range(self.n()))]
+        # Kept until something more is shown: a line asks often and shows seldom.
+        if self.fitting_now is None:
+            self.fitting_now = [
+                p for p in self.all_pairings() if all(p[look] in self.left[look] for look in range(self.n()))
+            ]
+        return self.fitting_now
 
     def possible(self, look):
         return sorted({pairing[look] for pairing in self.fitting()})
@@ -26,20 +37,19 @@ class Model:
             return [-2]
         if place == 1:
             return self.outcomes(numbers[0], rows[0])
-        if place in (2, 3, 4, 5, 6) and numbers[0] >= self.n():
+        if place in (2, 3, 4, 5, 6, 9, 10, 12, 15) and numbers[0] >= self.n():
             return [-6]
-        if place == 5 and numbers[1] >= self.n():
+        if place in (5, 10, 12) and numbers[1] >= self.n():
             return [-6]
-        if place == 2 and numbers[1] not in self.told:
+        if place in (2, 11) and numbers[-1] not in self.told:
             return [-5]
         if place < 6:
             return self.show(place, *numbers)
-        if place == 6:
-            return [0] + self.possible(numbers[0])
-        if place == 7:
-            kinds = [self.possible(look) for look in range(self.n())]
-            return [0] + [k[0] if len(k) == 1 else -1 for k in kinds]
-        return [0, len(self.fitting())]
+        questions = {
+            6: self.possible, 7: self.certain, 8: self.count, 9: self.left_for, 10: self.why, 11: self.try_look,
+            12: self.odds, 13: self.fits, 14: self.first, 15: self.worth, 16: self.state,
+        }
+        return [0] + questions[place](*numbers, *rows)
 
     def open(self, truth, look_sorts, kind_sorts, prices):
         if self.truth is not None:
@@ -52,6 +62,8 @@ class Model:
         if any(look_sorts[look] != kind_sorts[truth[look]] for look in range(n)):
             return [-4]
         self.truth = truth
+        self.look_sorts = look_sorts
+        self.kind_sorts = kind_sorts
         self.prices = prices
         self.left = [{k for k in range(n) if kind_sorts[k] == sort} for sort in look_sorts]
         return [0]
@@ -80,16 +92,78 @@ class Model:
             shown = 1 if kind == other else 0
             stays = {other} if shown else set(range(self.n())) - {other}
         self.left[look] &= stays
+        self.shown += 1
+        self.fitting_now = None
         return [0, shown]
+
+    def certain(self):
+        kinds = [self.possible(look) for look in range(self.n())]
+        return [k[0] if len(k) == 1 else -1 for k in kinds]
+
+    def count(self):
+        return [len(self.fitting())]
+
+    def left_for(self, look):
+        return sorted(self.left[look])
+
+    def why(self, look, kind):
+        if kind in self.possible(look):
+            return [0]
+        if kind not in self.left[look]:
+            return [1]
+        others = [other for other in range(self.n()) if other != look]
+        sets = [chosen for size in range(self.n()) for chosen in combinations(others, size)]
+        crowded = [chosen for chosen in sets if len(self.left_together(chosen) - {kind}) < len(chosen)]
+        return [2] + sorted(min(crowded, key=lambda chosen: sum(2 ** other for other in chosen)))
+
+    def left_together(self, looks):
+        return {kind for look in looks for kind in self.left[look]}
+
+    def try_look(self, situation):
+        worst = []
+        for look in range(self.n()):
+            outcomes = [self.told[situation][pairing[look]] for pairing in self.fitting()]
+            worst.append((max(outcomes.count(outcome) for outcome in range(10)), look))
+        number, look = min(worst)
+        return [look, number]
+
+    def odds(self, look, kind):
+        given = [pairing[look] for pairing in self.fitting()]
+        fraction = Fraction(given.count(kind), len(given))
+        return [fraction.numerator, fraction.denominator]
+
+    def fits(self, row):
+        return [1 if tuple(row) in self.fitting() else 0]
+
+    def first(self):
+        return list(min(self.fitting()))
+
+    def worth(self, look):
+        prices = [self.prices[kind] for kind in self.possible(look)]
+        return [min(prices), max(prices)]
+
+    def state(self):
+        return [self.n(), self.shown] + self.look_sorts + self.kind_sorts
+
+
+class ModelOfManyLooks(Model):
+    """The same for as many as 10 looks: pairings that give a look what isn't left for it are cut off early."""
+
+    def all_pairings(self):
+        begun = [()]
+        for kinds in self.left:
+            begun = [pairing + (kind,) for pairing in begun for kind in kinds if kind not in pairing]
+        return begun
 
 
 def within(place, numbers, rows):
     look, kind, situation = range(10), range(10), range(8)
     number_ranges = {
         0: [], 1: [situation], 2: [look, situation], 3: [look, range(2)], 4: [look], 5: [look, kind], 6: [look],
-        7: [], 8: [],
+        7: [], 8: [], 9: [look], 10: [look, kind], 11: [situation], 12: [look, kind], 13: [], 14: [], 15: [look],
+        16: [],
     }[place]
-    row_ranges = {0: [kind, range(6), range(6), range(1, 1000001)], 1: [range(10)]}.get(place, [])
+    row_ranges = {0: [kind, range(6), range(6), range(1, 1000001)], 1: [range(10)], 13: [kind]}.get(place, [])
     if any(number not in limits for number, limits in zip(numbers, number_ranges, strict=True)):
         return False
     for row, limits in zip(rows, row_ranges, strict=True):

@@ -2,6 +2,7 @@
 
 import ast
 import pathlib
+import re
 import unittest
 
 PACKAGE = pathlib.Path(__file__).resolve().parent.parent / "unknownkinds"
@@ -14,6 +15,15 @@ BARRED = (
 PYTHONS_OWN = (
     "len", "range", "enumerate", "zip", "min", "max", "sum", "abs", "sorted", "reversed", "int", "str", "bool",
     "list", "tuple", "dict", "set", "frozenset", "isinstance", "ord", "repr", "any", "all", "divmod",
+)
+
+METHODS = (
+    "append", "clear", "copy", "count", "endswith", "extend", "find", "get", "index", "insert", "items", "join", "keys",
+    "pop", "remove", "replace", "reverse", "setdefault", "split", "startswith", "update", "values", "bit_length",
+)
+BARRED_WORDS = (
+    "type", "typing", "typing_extensions", "enum", "Enum", "IntEnum", "StrEnum", "Flag", "IntFlag", "Generic",
+    "Protocol", "ABC", "ABCMeta", "namedtuple", "NamedTuple", "TypedDict", "TYPE_CHECKING", "abstractmethod",
 )
 
 
@@ -59,6 +69,30 @@ class FormTest(unittest.TestCase):
             for node in ast.walk(tree):
                 if isinstance(node, ast.Call) and isinstance(node.func, ast.Name):
                     self.assertIn(node.func.id, own | set(PYTHONS_OWN), path)
+
+    def test_every_method_called_is_the_programs_or_allowed(self):
+        trees = [ast.parse(path.read_text()) for path in FILES]
+        nodes = [node for tree in trees for node in ast.walk(tree)]
+        classes = [node for node in nodes if isinstance(node, ast.ClassDef)]
+        own = {part.name for node in classes for part in node.body if isinstance(part, ast.FunctionDef)}
+        for node in nodes:
+            if isinstance(node, ast.Call) and isinstance(node.func, ast.Attribute):
+                self.assertIn(node.func.attr, own | set(METHODS))
+
+    def test_a_comprehension_has_one_for_and_at_most_one_if(self):
+        for path in FILES:
+            for node in ast.walk(ast.parse(path.read_text())):
+                if isinstance(node, ast.ListComp):
+                    self.assertEqual(len(node.generators), 1, path)
+                    self.assertLessEqual(len(node.generators[0].ifs), 1, path)
+
+    def test_words_that_stand_nowhere(self):
+        for path in FILES:
+            words = set(re.findall(r"\w+", path.read_text()))
+            self.assertEqual(words & set(BARRED_WORDS), set(), path)
+            for node in ast.walk(ast.parse(path.read_text())):
+                if isinstance(node, ast.Name):
+                    self.assertFalse(node.id.startswith("_"), node.id)
 
 
 if __name__ == "__main__":

@@ -1,7 +1,8 @@
 import unittest
 
 from tests.lines import (
-    ask, asked, certain, count, offer, one_sort, open_, outcomes, possible, seen, tell, use,
+    BIG, ask, asked, certain, count, first, fits, left, odds, offer, one_sort, open_, outcomes, possible, seen, state,
+    tell, try_look, use, why, worth,
 )
 
 SHOWN = [
@@ -34,8 +35,27 @@ REFUSED = [
     (ask(4, 1), -6),
     (possible(10), -1),
     (possible(4), -6),
+    (left(10), -1),
+    (left(4), -6),
+    (why(-1, 0), -1),
+    (why(0, 10), -1),
+    (why(4, 0), -6),
+    (why(0, 4), -6),
+    (try_look(8), -1),
+    (try_look(3), -5),
+    (odds(BIG, 0), -1),
+    (odds(0, -BIG), -1),
+    (odds(4, 0), -6),
+    (odds(0, 4), -6),
+    (fits([2, 0, 3, 10]), -1),
+    (fits([0] * 11), -1),
+    (worth(10), -1),
+    (worth(4), -6),
 ]
-AFTER = seen(4) + [outcomes(3, [1, 2, 3, 4]), use(3, 3), use(3, 2), offer(3, 0)] + seen(4)
+AFTER = (
+    seen(4) + [try_look(2), outcomes(3, [1, 2, 3, 4]), try_look(3), fits([2, 0, 3, 1])]
+    + [use(3, 3), use(3, 2), offer(3, 0)] + seen(4)
+)
 
 
 class RefusalTest(unittest.TestCase):
@@ -56,7 +76,8 @@ class RefusalTest(unittest.TestCase):
     def test_while_the_house_is_not_open(self):
         before = [
             outcomes(2, [9, 9, 9, 9]), outcomes(3, []), use(0, 2), use(9, 7), offer(0, 1), tell(0), ask(0, 0),
-            possible(0), certain(), count(),
+            possible(0), certain(), count(), left(0), why(0, 0), why(9, 9), try_look(0), odds(0, 0), odds(9, 9),
+            fits([]), fits([0, 1]), first(), worth(0), state(),
         ]
         given = asked(*before, *SHOWN, *AFTER)
         self.assertEqual(given[:len(before)], [[-2]] * len(before))

@@ -1,5 +1,9 @@
 """The house: looks whose kinds are hidden, what was shown of them, and what follows from it."""
 
+from unknownkinds.pairings import (
+    count_pairings, crowded_looks, does_fit, first_pairing, is_pairing, pairings_by_kind, possible_kinds,
+)
+
 OUT_OF_RANGE = -1
 NOT_OPEN = -2
 OPEN_ALREADY = -3
@@ -20,12 +24,21 @@ NUMBER_RANGES = (
     ((0, 9),),  # possible: look
     (),  # certain
     (),  # count
+    ((0, 9),),  # left: look
+    ((0, 9), (0, 9)),  # why: look, kind
+    ((0, 7),),  # try: situation
+    ((0, 9), (0, 9)),  # odds: look, kind
+    (),  # fits
+    (),  # first
+    ((0, 9),),  # worth: look
+    (),  # state
 )
 
 # By the place of a call with rows: the least and the greatest that the numbers of each of them may be.
 ROW_RANGES = {
     0: ((0, 9), (0, 5), (0, 5), (1, 1000000)),  # open: truth, looks' sorts, kinds' sorts, prices
     1: ((0, 9),),  # outcomes: for each kind its outcome
+    13: ((0, 9),),  # fits: for each look a kind
 }
 
 
@@ -62,15 +75,22 @@ class House:
 
     def __init__(self):
         self.truth = []
+        self.look_sorts = []
+        self.kind_sorts = []
         self.prices = []
         self.outcomes = {}
         self.left = []
+        self.shown = 0
 
     def is_open(self):
         return len(self.truth) > 0
 
     def has(self, look_or_kind):
         return look_or_kind < len(self.truth)
+
+    def show(self, look, staying):
+        self.left[look] = staying
+        self.shown = self.shown + 1
 
 
 def answers(calls):
@@ -127,11 +147,31 @@ def answer_call(house, place, numbers, rows):
         return tell_kind(house, numbers[0])
     if place == 5:
         return ask_kind(house, numbers[0], numbers[1])
+    return answer_question(house, place, numbers, rows)
+
+
+def answer_question(house, place, numbers, rows):
     if place == 6:
         return answer_possible(house, numbers[0])
     if place == 7:
         return answer_certain(house)
-    return answer_count(house)
+    if place == 8:
+        return answer_count(house)
+    if place == 9:
+        return answer_left(house, numbers[0])
+    if place == 10:
+        return answer_why(house, numbers[0], numbers[1])
+    if place == 11:
+        return answer_try(house, numbers[0])
+    if place == 12:
+        return answer_odds(house, numbers[0], numbers[1])
+    if place == 13:
+        return answer_fits(house, rows[0])
+    if place == 14:
+        return answer_first(house)
+    if place == 15:
+        return answer_worth(house, numbers[0])
+    return answer_state(house)
 
 
 def open_house(house, truth, look_sorts, kind_sorts, prices):
@@ -144,13 +184,11 @@ def open_house(house, truth, look_sorts, kind_sorts, prices):
     if look_sorts != [kind_sorts[kind] for kind in truth]:
         return [WRONG_ROWS]
     house.truth = truth
+    house.look_sorts = look_sorts
+    house.kind_sorts = kind_sorts
     house.prices = prices
     house.left = [kinds_of_sort(sort, kind_sorts) for sort in look_sorts]
     return [0]
-
-
-def is_pairing(row):
-    return sorted(row) == list(range(len(row)))
 
 
 def kinds_of_sort(sort, kind_sorts):
@@ -173,7 +211,7 @@ def use_look(house, look, situation):
         return [WRONG_SITUATION]
     row = house.outcomes[situation]
     outcome = row[house.truth[look]]
-    house.left[look] = [kind for kind in house.left[look] if row[kind] == outcome]
+    house.show(look, [kind for kind in house.left[look] if row[kind] == outcome])
     return [0, outcome]
 
 
@@ -182,7 +220,7 @@ def offer_look(house, look, dear):
         return [NO_SUCH]
     price = house.prices[house.truth[look]]
     offered = price if dear == 0 else dearer_price(price)
-    house.left[look] = [kind for kind in house.left[look] if may_be_offered(house.prices[kind], offered)]
+    house.show(look, [kind for kind in house.left[look] if may_be_offered(house.prices[kind], offered)])
     return [0, offered]
 
 
@@ -199,7 +237,7 @@ def tell_kind(house, look):
     if not house.has(look):
         return [NO_SUCH]
     kind = house.truth[look]
-    house.left[look] = [kind]
+    house.show(look, [kind])
     return [0, kind]
 
 
@@ -207,59 +245,92 @@ def ask_kind(house, look, kind):
     if not house.has(look) or not house.has(kind):
         return [NO_SUCH]
     if house.truth[look] == kind:
-        house.left[look] = [kind]
+        house.show(look, [kind])
         return [0, 1]
-    house.left[look] = [other for other in house.left[look] if other != kind]
+    house.show(look, [other for other in house.left[look] if other != kind])
     return [0, 0]
 
 
 def answer_possible(house, look):
     if not house.has(look):
         return [NO_SUCH]
-    return [0] + possible_kinds(house.left, look)
+    return [0] + possible_kinds(house.left)[look]
 
 
 def answer_certain(house):
     answer = [0]
-    for look in range(len(house.left)):
-        kinds = possible_kinds(house.left, look)
+    for kinds in possible_kinds(house.left):
         answer.append(kinds[0] if len(kinds) == 1 else -1)
     return answer
 
 
 def answer_count(house):
-    ways = ways_to_take(house.left)
-    return [0, ways.get(all_taken(len(house.left)), 0)]
+    return [0, count_pairings(house.left)]
 
 
-def possible_kinds(left, look):
-    # A kind is possible if the other looks can share out all the other kinds.
-    ways = ways_to_take(left[:look] + left[look + 1:])
-    everything = all_taken(len(left))
-    return [kind for kind in left[look] if everything - (1 << kind) in ways]
+def answer_left(house, look):
+    if not house.has(look):
+        return [NO_SUCH]
+    return [0] + house.left[look]
 
 
-def ways_to_take(left):
-    """For each set of kinds that these looks can have: in how many ways they can have them.
-
-    A set of kinds is a number whose bits are its kinds. Going by sets, not by
-    pairings, there are at most 1024 of them, where there may be 3628800 pairings.
-    """
-    ways = {0: 1}
-    for kinds in left:
-        ways = ways_with_one_more(ways, kinds)
-    return ways
+def answer_why(house, look, kind):
+    if not house.has(look) or not house.has(kind):
+        return [NO_SUCH]
+    if kind not in house.left[look]:
+        return [0, 1]
+    if kind in possible_kinds(house.left)[look]:
+        return [0, 0]
+    return [0, 2] + crowded_looks(house.left, look, kind)
 
 
-def ways_with_one_more(ways, kinds):
-    grown = {}
-    for taken, number in ways.items():
-        for kind in kinds:
-            bit = 1 << kind
-            if (taken & bit) == 0:
-                grown[taken | bit] = grown.get(taken | bit, 0) + number
-    return grown
+def answer_try(house, situation):
+    if situation not in house.outcomes:
+        return [WRONG_SITUATION]
+    row = house.outcomes[situation]
+    at_worst = [most_of_one_outcome(numbers, row) for numbers in pairings_by_kind(house.left)]
+    fewest = min(at_worst)
+    return [0, at_worst.index(fewest), fewest]
 
 
-def all_taken(how_many):
-    return (1 << how_many) - 1
+def most_of_one_outcome(numbers, row):
+    by_outcome = {}
+    for number, outcome in zip(numbers, row):
+        by_outcome[outcome] = by_outcome.get(outcome, 0) + number
+    return max(by_outcome.values())
+
+
+def answer_odds(house, look, kind):
+    if not house.has(look) or not house.has(kind):
+        return [NO_SUCH]
+    numbers = pairings_by_kind(house.left)[look]
+    return [0] + lowest_terms(numbers[kind], sum(numbers))
+
+
+def lowest_terms(part, whole):
+    divisor = whole
+    rest = part
+    while rest > 0:
+        before = divisor
+        divisor = rest
+        rest = before % divisor
+    return [part // divisor, whole // divisor]
+
+
+def answer_fits(house, row):
+    return [0, 1 if does_fit(house.left, row) else 0]
+
+
+def answer_first(house):
+    return [0] + first_pairing(house.left)
+
+
+def answer_worth(house, look):
+    if not house.has(look):
+        return [NO_SUCH]
+    prices = [house.prices[kind] for kind in possible_kinds(house.left)[look]]
+    return [0, min(prices), max(prices)]
+
+
+def answer_state(house):
+    return [0, len(house.truth), house.shown] + house.look_sorts + house.kind_sorts
